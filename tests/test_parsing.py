@@ -188,6 +188,7 @@ class TokensTest(unittest.TestCase):
         self.assertEqual(parse("top c();"), parse("\n\ntop\nc\n(\n)\n;\n\n"))
         self.assertEqual(parse("# top d();\ntop c();\n#"), ("description", (), "c", ()))
         self.assertEqual(parse("#~!@$%\"'\\?/`_\ntop c();"), ("description", (), "c", ()))
+        self.assertEqual(parse("# \t\u00e9\r\ntop c();# \x00"), ("description", (), "c", ()))
 
     def test_lengths(self):
         self.assertEqual(expression("abcdefghijkl"), ref("abcdefghijkl"))
