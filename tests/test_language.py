@@ -19,6 +19,12 @@ INTERFACE = {
     "elaborate": ("flat",),
     "meaning": ("start", "step", "run"),
     "walk": ("Walk",),
+    "states": ("moore_run", "least", "least_right", "circuit_of"),
+    "nets": ("check", "values", "valued", "step", "run", "levels", "depth", "needed"),
+    "gates": ("blast", "bits_in", "words_out", "Builder"),
+    "solver": ("solve", "proof_right", "net_clauses", "integer_of"),
+    "sweep": ("tidied", "swept", "swept_right"),
+    "retime": ("origin", "period", "moved", "retimed", "retimed_right"),
 }
 
 BUILTINS = (
@@ -205,9 +211,20 @@ class InterfaceTest(unittest.TestCase):
                 self.assertEqual(made.__module__, "cellcloth." + file)
 
     def test_methods_stand_in_the_class(self):
-        module = importlib.import_module("cellcloth.walk")
-        for name in ("cycle", "state_of"):
-            self.assertIn(name, vars(module.Walk))
+        for file, made, names in (("walk", "Walk", ("cycle", "state_of")), ("gates", "Builder", ("both", "net"))):
+            module = importlib.import_module("cellcloth." + file)
+            for name in names:
+                self.assertIn(name, vars(getattr(module, made)))
+
+    def test_no_name_is_a_method_and_an_attribute(self):
+        methods, attributes = set(), set()
+        for name in files():
+            for made in ast.walk(ast.parse(source(name))):
+                if isinstance(made, ast.ClassDef):
+                    methods |= {row.name for row in made.body if isinstance(row, ast.FunctionDef)}
+                    attributes |= {node.attr for node in ast.walk(made)
+                                   if isinstance(node, ast.Attribute) and isinstance(node.ctx, ast.Store)}
+        self.assertEqual(methods & attributes, set())
 
 
 if __name__ == "__main__":
