@@ -25,6 +25,11 @@ INTERFACE = {
     "solver": ("solve", "proof_right", "net_clauses", "integer_of"),
     "sweep": ("tidied", "swept", "swept_right"),
     "retime": ("origin", "period", "moved", "retimed", "retimed_right"),
+    "cover": ("covered", "cut_bits", "covered_right"),
+    "cells": ("check_cells", "step_cells", "run_cells", "packed"),
+    "fabric": ("opposite", "beside", "borders", "empty", "check"),
+    "bits": ("bits_of", "config_of", "sum_of", "size_of"),
+    "device": ("start", "step", "run"),
 }
 
 BUILTINS = (
