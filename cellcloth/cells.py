@@ -86,11 +86,10 @@ def _is_there(cells, source):
 
 
 def _uses(rows):
-    """Returns for each cell that is not kept the cells that are not kept among its sources; none for the others."""
+    """Returns for each cell the cells that are not kept among its sources."""
     uses = {}
-    for j, (_, sources, _, kept, _) in enumerate(rows):
-        others = [source[1] for source in sources if source[0] == "cell" and rows[source[1]][3] == 0]
-        uses[j] = [] if kept == 1 else others
+    for j, (_, sources, _, _, _) in enumerate(rows):
+        uses[j] = [source[1] for source in sources if source[0] == "cell" and rows[source[1]][3] == 0]
     return uses
 
 

@@ -92,7 +92,7 @@ def _fault_of(config):
 
 def _is_named(told, word, many):
     """Returns whether a value is a tuple of so many parts that begins with a word."""
-    return isinstance(told, tuple) and len(told) == many and isinstance(told[0], str) and told[0] == word
+    return isinstance(told, tuple) and len(told) == many and told[0] == word
 
 
 def _is_number(told, low, high):

@@ -61,9 +61,9 @@ class Units:
         return clash
 
     def _put(self, clause, watched):
-        members = {integer: True for integer in clause}
-        if self.clashed or any([integer in self.taken or -integer in members for integer in clause]):
+        if self.clashed or any([integer in self.taken for integer in clause]):
             return
+        members = {integer: True for integer in clause}
         free = [integer for integer in members if -integer not in self.taken]
         if len(free) > 1:
             # What is taken now stays as long as this clause, so the integers opposite to it can go.
@@ -91,13 +91,14 @@ class Units:
         while self.done < len(self.order):
             against = -self.order[self.done]
             self.done += 1
-            for watched in (self.lasting, self.passing):
-                if against in watched and self._clash_among(watched, against):
-                    return True
+            if self._clash_among(self.lasting, against) or self._clash_among(self.passing, against):
+                return True
         return False
 
     def _clash_among(self, watched, against):
         """Looks at the clauses that watch an integer whose opposite is taken; returns whether one of them clashes."""
+        if against not in watched:
+            return False
         taken = self.taken
         watching = watched[against]
         staying = []

@@ -93,8 +93,7 @@ class Ways:
 
     def _after(self, node):
         """Returns the node to which a way goes on, or half of END behind the last one."""
-        here = 2 * node + 1
-        for there, is_free in self.steps[here].items():
-            if not is_free and there != 2 * node:
+        for there, is_free in self.steps[2 * node + 1].items():
+            if not is_free:
                 return there >> 1
         return END >> 1

@@ -172,6 +172,9 @@ class ReadTest(unittest.TestCase):
         for many in range(27):
             self.assertEqual(error_of(bits[:many]), many)
             self.assertEqual(error_of([1] * many), many)
+        # A head alone is there, so its numbers decide first.
+        self.assertEqual(error_of(bits[:27]), 27)
+        self.assertEqual([error_of([1] * 27), error_of([0] * 4 + [1] * 23), error_of([0] * 13 + [1] * 14)], [0, 4, 13])
 
     def test_heads(self):
         bits = bits_of(SMALL)

@@ -204,7 +204,7 @@ class RightTest(unittest.TestCase):
             for bits in (128, 8, 0, 32768):
                 self.assertIs(self.right(tables=with_table(tables, 2, cut=cut, bits=bits)), False)
         for cut in ([2, 1], [1], [1, 1, 2], [0, 1, 2], [1, 3], [6], [1, 6], [1, 2, 6], [1, 2, 7], [1, 2, 3, 4], []):
-            for bits in (8, 128, 2):
+            for bits in (8, 128, 2, 136):
                 self.assertIs(self.right(tables=with_table(tables, 0, cut=cut, bits=bits)), False)
 
     def test_wrong_bits(self):
@@ -255,7 +255,7 @@ class RightTest(unittest.TestCase):
         for ways in ([], [[1], [2], [3]], [[1], [2], [3], [4], [5]], [[], [2], [3], [4]], [[1], [2], [3], []],
                      [[1], [2], [3], [3]], [[1], [1], [3], [4]], [[6], [2], [3], [4]], [[0], [2], [3], [4]],
                      [[1], [2], [3], [7]], [[1, 6], [2], [3], [4]], [[1, 1], [2], [3], [4]], [[1, 2], [3], [4], [5]],
-                     [[-1], [2], [3], [4]], [[1], [2], [3], [11]], [[1], [2], [3], [100]]):
+                     [[-1], [2], [3], [4]], [[2, 1], [3], [4], [5]], [[1], [2], [3, 1], [4]], [[1], [2], [3], [11]], [[1], [2], [3], [100]]):
             for at in (2, 3):
                 self.assertIs(self.right(ways=with_item(self.WAYS, at, ways)), False)
         # 5 is in a literal of 9, but not of a gate that 8 needs; 10 is no gate that 9 needs.

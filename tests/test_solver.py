@@ -140,6 +140,12 @@ class SolveTest(unittest.TestCase):
             else:
                 self.assertIs(proof_right(clauses, told[1]), True)
         self.assertIn("no", answers)
+        random = Random(2)
+        clauses = [[random.choice((1, -1)) * v for v in random.sample(range(1, 151), 3)] for _ in range(639)]
+        answer, proof = solve(clauses, 150)
+        self.assertEqual(answer, "no")
+        self.assertGreater(len(proof), 4000)
+        self.assertIs(proof_right(clauses, proof), True)
         clauses = [[random.choice((1, -1)) * v for v in random.sample(range(1, 1001), 3)] for _ in range(3300)]
         told = solve(clauses, 1000)
         self.assertTrue(told[0] == "yes" and keeps(clauses, told[1]))

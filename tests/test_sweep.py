@@ -307,6 +307,26 @@ class SweptRightTest(unittest.TestCase):
                          (2, [0]), (1, 3), (1, 1), (3, [(6, 4), (2, 5)])):
             self.assertIs(self.right(other=with_item(self.other, at, made)), False)
 
+    def test_faults_of_gates_that_nobody_needs(self):
+        all_of_them = [([], [a, b]) for a in (0, 1) for b in (0, 1)]
+        last = [[7 if v == 6 else -7 if v == -6 else v for v in clause] for clause in self.images[2][1]]
+        images = with_item(self.images, 2, (3, last))
+        for pair, expected in (((3, 4), True), ((3, 98), False), ((98, 3), False), ((-3, 4), False), ((4, -1), False),
+                               ((10, 4), False), ((11, 4), False), ((3, 12), False)):
+            other = with_item(self.other, 3, [(2, 4), (2, 5), pair])
+            self.assertIs(self.right(other=other, images=images, rows=all_of_them), expected)
+
+    def test_another_number_of_inputs_alone(self):
+        net = ("net", 1, [], [], [], [2])
+        wider = ("net", 2, [], [], [], [2])
+        rows = [([], [0, 0]), ([], [0, 1]), ([], [1, 0])]
+        is_true(self, swept_right, wider, wider, ([], rows))
+        is_false(self, swept_right, net, wider, ([], rows))
+        is_false(self, swept_right, wider, net, ([], rows))
+        # One input more in the place of a flop.
+        flop = ("net", 1, [0], [], [2], [4])
+        is_false(self, swept_right, flop, ("net", 2, [], [], [], [4]), ([], rows))
+
     def test_starts_inputs_and_nexts(self):
         net = ("net", 1, [0, 1], [(2, 4)], [8, 7], [6])
         other, paper = swept(net)
