@@ -55,7 +55,8 @@ class Device:
             else:
                 pins = [spots.get(named, nothing) for named in tapped(config, part[1], part[2])]
                 self.tables.append((part[2] * fabric[1] + part[1], pins))
-        self.outs = [spots[("wire", *told)] for told in outs]
+        wires = [("wire", *told) for told in outs]
+        self.outs = [spots[wire] for wire in wires]
 
     def first_state(self):
         """Returns the state in the cycle 0."""

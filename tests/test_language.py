@@ -149,6 +149,15 @@ class LanguageTest(unittest.TestCase):
                 if isinstance(node, ast.Constant):
                     self.assertNotIsInstance(node.value, (float, complex, bytes))
 
+    def test_no_star_in_an_index(self):
+        for name, _, tree in self.each():
+            self.assertEqual(stars_in_indexes(tree), [], name)
+        for text in ("rows[*told]", "rows[1, *told]", "rows[('wire', *told)]", "rows[0][(1, (2, *told))]",
+                     "rows[(*told,)] = 1", "del rows[[*told][0]]"):
+            self.assertEqual(len(stars_in_indexes(ast.parse(text))), 1, text)
+        for text in ("key = ('wire', *told)\nrows[key]", "[*rows[0], 1]", "told(*rows[1])"):
+            self.assertEqual(stars_in_indexes(ast.parse(text)), [], text)
+
     def test_names(self):
         for name, _, tree in self.each():
             for node in ast.walk(tree):
@@ -192,6 +201,15 @@ class LanguageTest(unittest.TestCase):
             for node in ast.walk(tree):
                 if isinstance(node, ast.Name) and isinstance(node.ctx, ast.Load) and node.id in tables:
                     self.assertIn(id(node), allowed, (name, node.id))
+
+
+def stars_in_indexes(tree):
+    """The rows of all stars that stand in the brackets of an index."""
+    found = {}
+    for node in ast.walk(tree):
+        if isinstance(node, ast.Subscript):
+            found.update({id(part): part.lineno for part in ast.walk(node.slice) if isinstance(part, ast.Starred)})
+    return sorted(found.values())
 
 
 def names_of(node):
