@@ -1,10 +1,8 @@
 """The device, which runs by the bits of a config alone (section The device)."""
 
 from cellcloth.bits import config_of
-from cellcloth.errors import LoopError
 from cellcloth.fabric import places_of
-from cellcloth.order import finished, on_circles
-from cellcloth.wiring import driving, leaving, setting_of, tapped
+from cellcloth.wiring import driving, in_order, number_of, tapped
 
 
 def start(bits):
@@ -38,23 +36,17 @@ class Device:
         _, fabric, settings, ins, outs = config
         self.settings = settings
         self.many_ins = len(ins)
-        uses = _uses(config)
-        parts = list(uses)
-        circles = on_circles(parts, uses)
-        if circles:
-            numbers = set([part[2] * fabric[1] + part[1] for part in circles])
-            raise LoopError(sorted(numbers))
         spots = {("side", *told): at for at, told in enumerate(ins)}
         for number, (x, y) in enumerate(places_of(fabric)):
             spots[("output", x, y)] = len(ins) + number
         self.tables = []
         nothing = len(ins) + len(settings)
-        for part in finished(parts, uses):
+        for part in in_order(config):
             if part[0] == "wire":
                 spots[part] = spots.get(driving(config, part), nothing)
             else:
                 pins = [spots.get(named, nothing) for named in tapped(config, part[1], part[2])]
-                self.tables.append((part[2] * fabric[1] + part[1], pins))
+                self.tables.append((number_of(config, part[1], part[2]), pins))
         wires = [("wire", *told) for told in outs]
         self.outs = [spots[wire] for wire in wires]
 
@@ -74,23 +66,3 @@ class Device:
             else:
                 values[self.many_ins + number] = told
         return [values[spot] for spot in self.outs], after
-
-
-def _uses(config):
-    """Returns for each wire that leaves a place and each table the wires and tables on which it depends."""
-    fabric = config[1]
-    uses = {wire: _parts_behind(config, [driving(config, wire)]) for wire in leaving(fabric)}
-    for x, y in places_of(fabric):
-        uses[("table", x, y)] = _parts_behind(config, tapped(config, x, y))
-    return uses
-
-
-def _parts_behind(config, named):
-    """Returns the wires and tables among parts, where an output that is not kept stands for its table."""
-    found = []
-    for part in named:
-        if part[0] == "wire":
-            found.append(part)
-        elif part[0] == "output" and setting_of(config, part[1], part[2])[2] == 0:
-            found.append(("table", part[1], part[2]))
-    return found

@@ -1,6 +1,6 @@
 """A net in which no two nodes agree or are opposite, made gate by gate (point 10.4)."""
 
-from cellcloth.apart import first_rows, gate_sight, shape, sights_of, telling_rows
+from cellcloth.apart import first_rows, gate_sight, literal_sight, shape, sights_of, telling_rows
 from cellcloth.gates import Builder
 from cellcloth.nets import needed
 from cellcloth.solver import gate_clauses, integer_of, solve
@@ -41,6 +41,24 @@ class Merger:
                     self.proven[pair] = (literal, kept)
                     return self.proven[pair]
         return (told, None)
+
+    def branch(self):
+        """Returns a merger of the same nodes, to go on with apart from this one."""
+        told = Merger(self.ins, self.made.starts)
+        told.made.gates = list(self.made.gates)
+        told.made.known = dict(self.made.known)
+        told.rows = list(self.rows)
+        told.sights = list(self.sights)
+        told.nodes = dict(self.nodes)
+        told.proven = dict(self.proven)
+        return told
+
+    def telling_row(self, literal, other):
+        """Returns a state and input bits for which two literals, which are not always equal, have other values."""
+        many = len(self.rows)
+        differ = literal_sight(self.sights, literal, many) ^ literal_sight(self.sights, other, many)
+        row = self.rows[[at for at in range(many) if (differ >> at) & 1][0]]
+        return row[self.ins:], row[:self.ins]
 
     def needed_rows(self):
         """Returns rows that tell all nodes apart, as pairs of a state and input bits."""

@@ -30,6 +30,11 @@ INTERFACE = {
     "fabric": ("opposite", "beside", "borders", "empty", "check"),
     "bits": ("bits_of", "config_of", "sum_of", "size_of"),
     "device": ("start", "step", "run"),
+    "assign": ("assigned", "assign_right"),
+    "place": ("length", "placed", "plan_right"),
+    "route": ("used", "tree", "clauses_of", "routed", "routed_right"),
+    "times": ("times", "times_right"),
+    "stuck": ("faults", "answer", "fault_clauses", "told", "told_right", "tests", "agreeing"),
 }
 
 BUILTINS = (

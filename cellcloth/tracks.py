@@ -1,0 +1,118 @@
+"""Shapes and tracks for sources, as few tracks as there can be, and proofs of it (points 19.3 to 19.5).
+
+What is looked at here are masks: for each source, for both shapes, an integer with a bit for each wire of its tree.
+"""
+
+from cellcloth.errors import LimitError
+from cellcloth.solver import solve
+
+MOST_TRACKS = 8
+
+
+def masks_of(trees):
+    """Returns the masks of pairs of trees."""
+    numbers = {}
+    masks = []
+    for pair in trees:
+        masks.append([sum([1 << numbers.setdefault(wire, len(numbers)) for wire in tree]) for tree in pair])
+    return masks
+
+
+def numbered(many, tracks):
+    """Returns for each of so many sources, for both shapes, the list of the variables of its tracks."""
+    found = []
+    last = 0
+    for at in range(many):
+        wide = min(at + 1, tracks)
+        found.append([list(range(last + 1, last + wide + 1)), list(range(last + wide + 1, last + 2 * wide + 1))])
+        last += 2 * wide
+    return found
+
+
+def track_clauses(masks, tracks):
+    """Returns the clauses for so many tracks, and the number of their variables (point 19.4)."""
+    variables = numbered(len(masks), tracks)
+    clauses = [pair[0] + pair[1] for pair in variables]
+    for i in range(len(masks)):
+        for j in range(i + 1, len(masks)):
+            for shape in range(2):
+                for other in range(2):
+                    if masks[i][shape] & masks[j][other]:
+                        clauses.extend([[-one, -two] for one, two in zip(variables[i][shape], variables[j][other])])
+    return clauses, max([0] + [pair[1][-1] for pair in variables])
+
+
+def keeps_apart(masks, shapes, tracks, many):
+    """Returns whether two lists are a routing for so many tracks (point 19.3)."""
+    if len(shapes) != len(masks) or len(tracks) != len(masks):
+        return False
+    taken = [0] * many
+    for at, (shape, track) in enumerate(zip(shapes, tracks)):
+        if shape not in (0, 1) or track not in range(min(at + 1, many)) or taken[track] & masks[at][shape]:
+            return False
+        taken[track] |= masks[at][shape]
+    return True
+
+
+def least_tracks(masks):
+    """Returns the shapes and the tracks of a routing for the least number of tracks, this number, and its proof."""
+    group = _apart_group(masks)
+    many = max(1, len(group))
+    proof = [] if many == 1 else _crowd_proof(group, many - 1, numbered(len(masks), many - 1))
+    while many <= MOST_TRACKS:
+        clauses, last = track_clauses(masks, many)
+        answer, told = solve(clauses, last)
+        if answer == "yes":
+            chosen = [_chosen(pair, told) for pair in numbered(len(masks), many)]
+            return [shape for shape, _ in chosen], [track for _, track in chosen], many, proof
+        proof = told
+        many += 1
+    raise LimitError("tracks")
+
+
+def _chosen(pair, bits):
+    """Returns the first shape and track of a source whose variable is 1."""
+    for shape in range(2):
+        for track, variable in enumerate(pair[shape]):
+            if bits[variable - 1] == 1:
+                return shape, track
+    return 0, 0
+
+
+def _apart_group(masks):
+    """Returns sources, ascending, of which each two need different tracks whatever their shapes: as many as are found.
+    """
+    rivals = []
+    for one in masks:
+        rivals.append([all([a & b != 0 for a in one for b in other]) for other in masks])
+    counts = [sum(row) for row in rivals]
+    order = [at for _, at in sorted([(-count, at) for at, count in enumerate(counts)])]
+    best = []
+    for first in range(len(masks)):
+        group = [first]
+        for other in order:
+            if other not in group and all([rivals[other][at] for at in group]):
+                group.append(other)
+        if len(group) > len(best):
+            best = group
+    return sorted(best)
+
+
+def _crowd_proof(group, tracks, variables):
+    """Returns a proof that one source more than there are tracks cannot all have different ones.
+
+    For each set of tracks, ascending, it is shown that the first sources, one more than the set has tracks, are not
+    all on tracks of the set.
+    """
+    proof = []
+    for word in range(1, 1 << tracks):
+        inside = [track for track in range(tracks) if (word >> track) & 1]
+        firsts = group[:len(inside) + 1]
+        outside = []
+        for source in firsts:
+            for row in variables[source]:
+                outside.extend([variable for track, variable in enumerate(row) if track not in inside])
+        for row in variables[firsts[-1]]:
+            proof.extend([[-variable] + outside for track, variable in enumerate(row) if track in inside])
+        proof.append(outside)
+    return proof
