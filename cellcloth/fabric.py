@@ -58,6 +58,14 @@ def is_border(fabric, told):
     return beside(fabric, x, y, side) is None
 
 
+def is_fabric(told):
+    """Returns whether a value of any kind is a fabric (point 14.1)."""
+    if not _is_named(told, "fabric", 5):
+        return False
+    most = (MOST_PLACES, MOST_PLACES, MOST_TRACKS, MOST_PINS)
+    return all([_is_number(number, 1, high) for number, high in zip(told[1:], most)])
+
+
 def greatest_tap(fabric):
     """Returns the greatest code of a tap."""
     return 1 + 4 * fabric[3]
@@ -76,7 +84,7 @@ def _fault_of(config):
         return "config"
     if len(ins) > MOST_ENDS or len(outs) > MOST_ENDS:
         return "config"
-    if not _is_fabric(fabric):
+    if not is_fabric(fabric):
         return "fabric"
     if len(settings) != fabric[1] * fabric[2]:
         return "settings"
@@ -102,13 +110,6 @@ def _is_number(told, low, high):
 
 def _are_codes(told, many, high):
     return isinstance(told, list) and len(told) == many and all([_is_number(code, 0, high) for code in told])
-
-
-def _is_fabric(told):
-    if not _is_named(told, "fabric", 5):
-        return False
-    most = (MOST_PLACES, MOST_PLACES, MOST_TRACKS, MOST_PINS)
-    return all([_is_number(number, 1, high) for number, high in zip(told[1:], most)])
 
 
 def _is_setting(fabric, told):

@@ -1,27 +1,13 @@
-"""Nets with a fault, in many tests at once (section Stuck nodes).
+"""Nets with a fault, in many tests at once (section Stuck nodes)."""
 
-A column has the values of a node in all tests as the bits of one integer; the first test has the low bit.
-"""
-
+from cellcloth.columns import column_of, columns_of, columns_of_rows, with_gates
 from cellcloth.nets import base_of
 
 
-def columns_of(net, tests):
+def sound_columns(net, tests):
     """Returns the columns of all nodes of a net without a fault."""
-    _, ins, starts, gates, _, _ = net
-    columns = [0] * base_of(net)
-    for at, (state, bits) in enumerate(tests):
-        for k, bit in enumerate([*bits, *state]):
-            columns[1 + k] |= bit << at
-    ones = (1 << len(tests)) - 1
-    for a, b in gates:
-        columns.append(column_of(columns, a, ones) & column_of(columns, b, ones))
-    return columns
-
-
-def column_of(columns, literal, ones):
-    """Returns the column of a literal; `ones` is the column of 1."""
-    return columns[literal >> 1] ^ (ones if literal & 1 else 0)
+    rows = [[*bits, *state] for state, bits in tests]
+    return with_gates(net, columns_of_rows(rows, base_of(net) - 1), (1 << len(tests)) - 1)
 
 
 def faulty_columns(net, columns, fault, ones):
@@ -51,4 +37,4 @@ def finding(net, columns, fault, ones):
 
 def answer_columns(net, columns, ones):
     """Returns the columns of the outs and then of the nexts."""
-    return [column_of(columns, literal, ones) for literal in net[5] + net[4]]
+    return columns_of(columns, net[5] + net[4], ones)

@@ -2,7 +2,7 @@
 
 from cellcloth.apart import first_rows, gate_sight, literal_sight, shape, sights_of, telling_rows
 from cellcloth.gates import Builder
-from cellcloth.nets import needed
+from cellcloth.nets import base_of, needed
 from cellcloth.solver import gate_clauses, integer_of, solve
 
 
@@ -42,15 +42,23 @@ class Merger:
                     return self.proven[pair]
         return (told, None)
 
+    def images_of(self, net):
+        """Returns the literals that the nodes of a net with these inputs and flops become."""
+        images = [2 * node for node in range(base_of(net))]
+        for pair in net[3]:
+            a, b = [images[literal >> 1] ^ (literal & 1) for literal in pair]
+            images.append(self.image(a, b)[0])
+        return images
+
     def branch(self):
         """Returns a merger of the same nodes, to go on with apart from this one."""
         told = Merger(self.ins, self.made.starts)
         told.made.gates = list(self.made.gates)
-        told.made.known = dict(self.made.known)
+        told.made.known = {pair: self.made.known[pair] for pair in self.made.known}
         told.rows = list(self.rows)
         told.sights = list(self.sights)
-        told.nodes = dict(self.nodes)
-        told.proven = dict(self.proven)
+        told.nodes = {sight: self.nodes[sight] for sight in self.nodes}
+        told.proven = {pair: self.proven[pair] for pair in self.proven}
         return told
 
     def telling_row(self, literal, other):

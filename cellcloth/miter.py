@@ -13,9 +13,7 @@ class Miter:
         self.original = net
         self.nodes = {node: True for node in needed(net, net[4] + net[5])}
         self.merger = Merger(net[1], net[2])
-        self.images = [2 * node for node in range(base_of(net))]
-        for a, b in net[3]:
-            self.images.append(self.merger.image(_stands(self.images, a), _stands(self.images, b))[0])
+        self.images = self.merger.images_of(net)
 
     def test_for(self, fault):
         """Returns a test that finds a fault, or None."""

@@ -1,7 +1,7 @@
 """Stuck nodes: faults, tests that find them, and proofs that none does (section Stuck nodes)."""
 
 from cellcloth.apart import first_rows
-from cellcloth.faulty import answer_columns, columns_of, faulty_columns, finding
+from cellcloth.faulty import answer_columns, faulty_columns, finding, sound_columns
 from cellcloth.miter import Miter, moved_integer, test_or_proof
 from cellcloth.nets import base_of, many_nodes
 from cellcloth.solver import gate_clauses, integer_of, net_clauses, proof_right
@@ -16,7 +16,7 @@ def faults(net):
 
 def answer(net, fault, test):
     """Returns the answer of a test with a fault, or without one for None."""
-    columns = columns_of(net, [test])
+    columns = sound_columns(net, [test])
     if fault is not None:
         columns = faulty_columns(net, columns, fault, 1)
     told = answer_columns(net, columns, 1)
@@ -53,7 +53,7 @@ def fault_clauses(net, fault):
 def told(net, fault):
     """Returns what is right to tell of a fault: a test that finds it, or a proof that none does."""
     rows = _first_tests(net)
-    found = finding(net, columns_of(net, rows), fault, (1 << len(rows)) - 1)
+    found = finding(net, sound_columns(net, rows), fault, (1 << len(rows)) - 1)
     if found != 0:
         state, bits = [test for at, test in enumerate(rows) if (found >> at) & 1][0]
         return ("test", state, bits)
@@ -78,7 +78,7 @@ def tests(net):
     rows = _first_tests(net)
     rows = rows + _further_tests(net, rows)
     ones = (1 << len(rows)) - 1
-    columns = columns_of(net, rows)
+    columns = sound_columns(net, rows)
     found = {finding(net, columns, fault, ones): True for fault in faults(net)}
     chosen = _lean_choice([column for column in found if column != 0])
     return [test for at, test in enumerate(rows) if (chosen >> at) & 1]
@@ -86,7 +86,7 @@ def tests(net):
 
 def agreeing(net, sights):
     """Returns what agrees with sights: None for no fault, and faults, ascending."""
-    columns = columns_of(net, [test for test, _ in sights])
+    columns = sound_columns(net, [test for test, _ in sights])
     ones = (1 << len(sights)) - 1
     wanted = _columns_seen(net, sights)
     if wanted is None:
@@ -114,7 +114,7 @@ def _further_tests(net, rows):
     if net[1] + len(net[2]) <= FEW_BITS:
         return []
     ones = (1 << len(rows)) - 1
-    columns = columns_of(net, rows)
+    columns = sound_columns(net, rows)
     rest = [fault for fault in faults(net) if finding(net, columns, fault, ones) == 0]
     found = []
     miter = Miter(net)
@@ -123,7 +123,7 @@ def _further_tests(net, rows):
         rest = rest[1:]
         if test is not None:
             found.append(test)
-            columns = columns_of(net, [test])
+            columns = sound_columns(net, [test])
             rest = [fault for fault in rest if finding(net, columns, fault, 1) == 0]
     return found
 

@@ -48,7 +48,11 @@ def swept_right(net, other, paper):
     for literals, others in ((net[4], other[4]), (net[5], other[5])):
         if [_stands(standing, literal) for literal in literals] != others:
             return False
+    if any([len(state) != len(net[2]) or len(inputs) != net[1] for state, inputs in rows]):
+        return False
     bits = [[*inputs, *state] for state, inputs in rows]
+    if any([bit not in (0, 1) for row in bits for bit in row]):
+        return False
     return all_apart(sights_of(base_of(other) - 1, other[3], bits), len(bits))
 
 

@@ -34,6 +34,12 @@ INTERFACE = {
     "place": ("length", "placed", "plan_right"),
     "route": ("used", "tree", "clauses_of", "routed", "routed_right"),
     "times": ("times", "times_right"),
+    "reader": ("net_of", "remarks", "trimmed"),
+    "judge": ("judge", "judge_right"),
+    "change": ("changed_places", "undisturbed", "undisturbed_right", "switched", "changed_run"),
+    "road": ("agree", "road", "shown"),
+    "audit": ("audit",),
+    "desk": ("Desk", "session"),
     "stuck": ("faults", "answer", "fault_clauses", "told", "told_right", "tests", "agreeing"),
 }
 
@@ -54,7 +60,7 @@ BARRED_STARTS = ("__", "_wall", "_pe_", "_dcw_", "_enum_", "_cm_", "_twin_re_", 
 
 BARRED_NODES = (
     ast.AsyncFunctionDef, ast.Await, ast.Global, ast.Nonlocal, ast.Lambda, ast.Div, ast.Import,
-    ast.Try, ast.With, ast.Yield, ast.YieldFrom, ast.Match, ast.NamedExpr, ast.GeneratorExp, ast.AnnAssign, ast.Set,
+    ast.With, ast.Yield, ast.YieldFrom, ast.Match, ast.NamedExpr, ast.GeneratorExp, ast.AnnAssign, ast.Set,
     ast.SetComp)
 
 
@@ -154,6 +160,16 @@ class LanguageTest(unittest.TestCase):
                 if isinstance(node, ast.Constant):
                     self.assertNotIsInstance(node.value, (float, complex, bytes))
 
+    def test_only_own_errors_are_caught(self):
+        for name, _, tree in self.each():
+            for node in ast.walk(tree):
+                if isinstance(node, ast.Try):
+                    self.assertEqual((node.orelse, node.finalbody), ([], []), name)
+                    names = [handler.name for handler in node.handlers if handler.name]
+                    self.assertEqual(len(set(names)), len(names), name)
+                    for handler in node.handlers:
+                        self.assertIn(handler.type.id, INTERFACE["errors"], name)
+
     def test_no_star_in_an_index(self):
         for name, _, tree in self.each():
             self.assertEqual(stars_in_indexes(tree), [], name)
@@ -178,12 +194,12 @@ class LanguageTest(unittest.TestCase):
                     self.assertNotIn("%", node.value, name)
 
     def test_calls(self):
+        methods = {node.name for _, _, tree in self.each() for node in ast.walk(tree)
+                   if isinstance(node, ast.FunctionDef)}
         for name, _, tree in self.each():
             own = {node.name for node in ast.walk(tree) if isinstance(node, (ast.FunctionDef, ast.ClassDef))}
             own |= {alias.name for node in tree.body if isinstance(node, ast.ImportFrom) for alias in node.names}
-            own |= {"one", "read", "write"}
-            methods = {node.name for _, _, other in self.each() for node in ast.walk(other)
-                       if isinstance(node, ast.FunctionDef)}
+            own |= {"one", "read", "write", "act", "look"}
             for node in ast.walk(tree):
                 if isinstance(node, ast.Call) and isinstance(node.func, ast.Name):
                     self.assertIn(node.func.id, own | set(BUILTINS), name)
@@ -238,8 +254,12 @@ class InterfaceTest(unittest.TestCase):
                 self.assertTrue(inspect.isclass(made) or inspect.isfunction(made))
                 self.assertEqual(made.__module__, "cellcloth." + file)
 
+    def test_signs(self):
+        self.assertIs(type(importlib.import_module("cellcloth.words").SIGNS), tuple)
+
     def test_methods_stand_in_the_class(self):
-        for file, made, names in (("walk", "Walk", ("cycle", "state_of")), ("gates", "Builder", ("both", "net"))):
+        for file, made, names in (("walk", "Walk", ("cycle", "state_of")), ("gates", "Builder", ("both", "net")),
+                                  ("desk", "Desk", ("command",))):
             module = importlib.import_module("cellcloth." + file)
             for name in names:
                 self.assertIn(name, vars(getattr(module, made)))
