@@ -53,8 +53,9 @@ class Merger:
     def branch(self):
         """Returns a merger of the same nodes, to go on with apart from this one."""
         told = Merger(self.ins, self.made.starts)
-        told.made.gates = list(self.made.gates)
-        told.made.known = {pair: self.made.known[pair] for pair in self.made.known}
+        made = told.made
+        made.gates = list(self.made.gates)
+        made.known = {pair: self.made.known[pair] for pair in self.made.known}
         told.rows = list(self.rows)
         told.sights = list(self.sights)
         told.nodes = {sight: self.nodes[sight] for sight in self.nodes}

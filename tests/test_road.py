@@ -177,13 +177,21 @@ class ErrorTest(unittest.TestCase):
         self.assertEqual(error_of(description_of("out s: 1 = word(0, 1);"), ("fabric", 9, 9, 1, 1)), (FitError, "pins"))
 
     def test_tracks(self):
-        # Cells in one row of places, of which each is used by cells at both ends: too many wires lie in its middle.
-        text = " ".join([f"reg r{k}: 1 from {k % 2} = ((r{(k + 7) % 24} ^ r{(k * 5 + 1) % 24}) & r{(k * 11 + 3) % 24});"
-                         for k in range(24)])
-        sums = " ^ ".join(f"r{k}" for k in range(3))
-        description = description_of(text + f" out s: 3 = join(r0, r7, r9); out t: 1 = (({sums.replace(' ^ ', ') ^ ', 1)});"
-                                     .replace("((r0) ^ r1 ^ r2)", "((r0 ^ r1) ^ r2)"))
-        self.assertIsNone(error_of(description, GREAT))
+        """Twelve cells in one row of places, whose sources lie on both sides of them: too many wires in its middle."""
+        random = Random(97)
+        random.choice((0, 1))
+        bits = [f"cut({'a' if k < 13 else 'b'}, {k % 13}, 1)" for k in range(26)]
+        lines = ["in a: 13; in b: 13;"]
+        for at in range(12):
+            sources = [f"r{(at + by) % 12}" for by in random.sample(range(1, 12), 1)]
+            sources += [bits[k] for k in random.sample(range(26), 3)]
+            random.shuffle(sources)
+            lines.append("reg r{}: 1 from 0 = (({} & {}) ^ ({} & {}));".format(at, *sources))
+        lines.append("out s: 12 = join(" + ", ".join(f"r{at}" for at in range(12)) + ");")
+        lines.append("out t: 13 = join(" + ", ".join(f"r{random.randrange(12)}" for _ in range(13)) + ");")
+        description = description_of(" ".join(lines))
+        self.assertEqual(error_of(description, ("fabric", 12, 1, 1, 4)), (LimitError, "tracks"))
+        self.assertIsNone(error_of(description, ("fabric", 12, 2, 1, 4)))
 
 
 class AgreeTest(unittest.TestCase):
