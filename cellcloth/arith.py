@@ -125,10 +125,12 @@ def _sum(made, first, second, carry):
 
 
 def _product(made, first, second):
-    width = len(first)
+    # Words that are multiplied the other way round give the same gates again.
+    low, high = sorted([first, second])
+    width = len(low)
     told = [0] * width
-    for at, bit in enumerate(second):
-        part = [made.both(bit, literal) for literal in first[:width - at]]
+    for at, bit in enumerate(high):
+        part = [made.both(bit, literal) for literal in low[:width - at]]
         told = told[:at] + _sum(made, told[at:], part, 0)
     return told
 

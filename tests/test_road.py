@@ -144,11 +144,14 @@ class ErrorTest(unittest.TestCase):
     def test_gates(self):
         for pins in (1, 2, 4):
             self.assertEqual(error_of(description_of(self.MANY), ("fabric", 1, 1, 1, pins)), (LimitError, "gates"))
+        # Equal products of wide words are seen as equal, whichever word stands first.
+        text = "in a: 9; in b: 9; out s: 9 = (a * b); out t: 9 = (b * a);"
+        self.assertEqual(error_of(description_of(text), GREAT), (LimitError, "gates"))
         # The net of the circuit may have more, as long as the swept one has not.
-        text = "in a: 6; in b: 6; let x: 6 = (a * b); let y: 6 = (a * b); out s: 6 = (x - y); out t: 1 = any((x ^ y));"
-        self.assertIsNone(error_of(description_of(text), GREAT))
-        self.assertGreater(len(blast(flat(description_of(text.replace("(a * b); out", "(b * a); out"))))[3]), 200)
-        self.assertIsNone(error_of(description_of(text.replace("(a * b); out", "(b * a); out")), GREAT))
+        description = description_of("in a: 15; in b: 15; let x: 15 = (a - b); let y: 15 = not((not(a) + b));"
+                                     "out s: 15 = choose(any((x ^ y)), y, x);")
+        self.assertGreater(len(blast(flat(description))[3]), 250)
+        self.assertIsNone(error_of(description, GREAT))
 
     def test_two_hundred_gates(self):
         for gates, error in ((199, None), (200, None), (201, (LimitError, "gates")), (202, (LimitError, "gates"))):
