@@ -8,7 +8,9 @@ def used_sources(cells):
     _, ins, rows, outs = cells
     has_ends = {source: True for source in outs}
     for at, (_, sources, _, _, _) in enumerate(rows):
-        has_ends.update({source: True for source in sources if source != ("cell", at)})
+        for source in sources:
+            if source != ("cell", at):
+                has_ends[source] = True
     pads = [("pad", at) for at in range(ins)]
     return [source for source in pads + [("cell", at) for at in range(len(rows))] if source in has_ends]
 
