@@ -13,10 +13,12 @@ class Search:
     Lists over integers have the place of a negative one counted from their end. `held` tells 1 for an integer
     that is taken and -1 for its opposite; `levels` and `reasons` tell of integers that are taken how many guesses
     were made by then, and the clause for which it had to be taken. Each clause is watched by its first two integers.
+    A bold search guesses that a variable is 1, another one that it is what it was before.
     """
 
-    def __init__(self, many, clauses):
+    def __init__(self, many, clauses, is_bold=False):
         self.many = many
+        self.is_bold = is_bold
         self.held = [0] * (2 * many + 1)
         self.levels = [0] * (2 * many + 1)
         self.reasons = [None] * (2 * many + 1)
@@ -31,6 +33,9 @@ class Search:
         self.learned = []
         self.proof = []
         self.clashed = False
+        self.stretches = 1
+        self.left = FIRST_STRETCH
+        self.room = FIRST_ROOM
         for clause in clauses:
             self._give(clause)
 
@@ -38,11 +43,11 @@ class Search:
         """Returns the bits that were found, one for each variable."""
         return [1 if self.held[variable] == 1 else 0 for variable in range(1, self.many + 1)]
 
-    def finds(self):
-        """Returns whether some bits keep all clauses; if not, `proof` shows it."""
-        stretches = 1
-        left = FIRST_STRETCH
-        room = FIRST_ROOM
+    def finds(self, most=None):
+        """Returns whether some bits keep all clauses; if not, `proof` shows it.
+
+        Returns None if there were more clashes than `most` by then; called again, it goes on from there.
+        """
         while True:
             clash = self._spread()
             if self.clashed or clash is not None and not self.marks:
@@ -50,13 +55,15 @@ class Search:
                 return False
             if clash is not None:
                 self._learn(clash)
-                left -= 1
-            elif left <= 0 and self.marks:
-                stretches += 1
-                left = FIRST_STRETCH * _stretch(stretches)
+                self.left -= 1
+            elif most is not None and len(self.proof) > most:
+                return None
+            elif self.left <= 0 and self.marks:
+                self.stretches += 1
+                self.left = FIRST_STRETCH * _stretch(self.stretches)
                 self._back_to(0)
-            elif len(self.learned) > room and not self.marks:
-                room += MORE_ROOM
+            elif len(self.learned) > self.room and not self.marks:
+                self.room += MORE_ROOM
                 self._forget()
             elif not self._guess():
                 return True
@@ -91,7 +98,7 @@ class Search:
         if variable == 0:
             return False
         self.marks.append(len(self.order))
-        self._take(variable * self.liked[variable], None)
+        self._take(variable if self.is_bold else variable * self.liked[variable], None)
         return True
 
     def _back_to(self, level):

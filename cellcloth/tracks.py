@@ -3,10 +3,15 @@
 What is looked at here are masks: for each source, for both shapes, an integer with a bit for each wire of its tree.
 """
 
+from cellcloth.attempt import Attempt
 from cellcloth.errors import LimitError
-from cellcloth.solver import solve
+from cellcloth.search import Search
 
 MOST_TRACKS = 8
+# Beyond so many clashes a search is seen as a long one.
+FEW_CLASHES = 3000
+FEW_CHANGES = 10000
+CHANGES_BESIDE_A_CLASH = 4
 
 
 def masks_of(trees):
@@ -60,14 +65,65 @@ def least_tracks(masks):
     many = max(1, len(group))
     proof = [] if many == 1 else _crowd_proof(group, many - 1, numbered(len(masks), many - 1))
     while many <= MOST_TRACKS:
-        clauses, last = track_clauses(masks, many)
-        answer, told = solve(clauses, last)
-        if answer == "yes":
-            chosen = [_chosen(pair, told) for pair in numbered(len(masks), many)]
-            return [shape for shape, _ in chosen], [track for _, track in chosen], many, proof
-        proof = told
+        search = _search_for(masks, many)
+        found = search.finds(FEW_CLASHES)
+        if found is None:
+            return _from_above(masks, many, proof)
+        if found:
+            shapes, tracks = _routing_of(masks, many, search.bits())
+            return shapes, tracks, many, proof
+        proof = search.proof
         many += 1
     raise LimitError("tracks")
+
+
+def _from_above(masks, least, proof):
+    """Returns what `least_tracks` does, where the proof shows that fewer tracks than `least` are not enough.
+
+    A routing for some tracks more is often found fast. Then only the last proof may take long.
+    """
+    many = least
+    routing = None
+    while routing is None and many <= MOST_TRACKS:
+        attempt = Attempt(masks, many)
+        if attempt.succeeds(FEW_CHANGES):
+            routing = attempt.routing()
+        else:
+            many += 1
+    while many > least:
+        better, told = _settled(masks, many - 1)
+        if better is None:
+            proof = told
+            break
+        routing = better
+        many -= 1
+    if many > MOST_TRACKS:
+        raise LimitError("tracks")
+    return routing[0], routing[1], many, proof
+
+
+def _settled(masks, tracks):
+    """Returns a routing, and None; or None, and a proof that there is none. Searches and attempts take turns."""
+    search = _search_for(masks, tracks)
+    attempt = Attempt(masks, tracks)
+    most = FEW_CLASHES
+    while True:
+        found = search.finds(most)
+        if found is not None:
+            return (_routing_of(masks, tracks, search.bits()), None) if found else (None, search.proof)
+        if attempt.succeeds(CHANGES_BESIDE_A_CLASH * most):
+            return attempt.routing(), None
+        most *= 2
+
+
+def _search_for(masks, tracks):
+    clauses, last = track_clauses(masks, tracks)
+    return Search(last, clauses, True)
+
+
+def _routing_of(masks, tracks, bits):
+    chosen = [_chosen(pair, bits) for pair in numbered(len(masks), tracks)]
+    return [shape for shape, _ in chosen], [track for _, track in chosen]
 
 
 def _chosen(pair, bits):

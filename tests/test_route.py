@@ -3,8 +3,10 @@
 import unittest
 from itertools import product
 from random import Random
+from unittest.mock import patch
 
 from calling import called, is_false, is_true, with_item
+from cellcloth import tracks
 from cellcloth.bits import bits_of
 from cellcloth.cells import run_cells
 from cellcloth.device import run
@@ -309,6 +311,42 @@ class RoutedTest(unittest.TestCase):
             for many in (9, 10):
                 cells, plan = crossing(many, extra)
                 self.assertEqual(limit_of(cells, fabric, plan), "tracks")
+
+    def test_searches_that_take_long(self):
+        """The same, where searches are soon seen as long ones, and first attempts fail or not."""
+        seen = set()
+        for seed in range(90):
+            random = Random(seed)
+            fabric = ("fabric", *random.choice(((4, 1), (2, 2), (3, 2), (3, 3), (4, 4))), 1, 4)
+            cells = made_cells(seed, min(fabric[1] * fabric[2], 14), random.randint(0, 5), random.randint(0, 4), 4)
+            plan = any_plan(seed, cells, fabric)
+            expected = routed(cells, fabric, plan)[0][1][3]
+            with patch.object(tracks, "FEW_CLASHES", 1), patch.object(tracks, "FEW_CHANGES", (0, 3, 200)[seed % 3]):
+                self.assertEqual(self.check(cells, fabric, plan)[1][3], expected)
+            seen.add(expected)
+        self.assertTrue({1, 2, 3, 4} <= seen)
+
+    def test_too_many_tracks_and_searches_that_take_long(self):
+        fabric = ("fabric", 12, 2, 1, 4)
+        with patch.object(tracks, "FEW_CLASHES", 1), patch.object(tracks, "_apart_group", lambda masks: []):
+            for many, limit in ((6, None), (8, None), (9, "tracks")):
+                cells, plan = crossing(many)
+                with patch.object(tracks, "FEW_CHANGES", 5 if many > 8 else 100):
+                    self.assertEqual(limit_of(cells, fabric, plan), limit)
+
+    def test_crowded_places(self):
+        """A routing is found that is hard to find by the clauses alone."""
+        random = Random(3)
+        rows = []
+        for _ in range(64):
+            sources = [pad(random.randrange(10)) if random.random() < 0.15 else cell(random.randrange(64)) for _ in range(4)]
+            rows.append(row(*sources, table=random.randrange(65536), kept=1))
+        cells = ("cells", 10, rows, [cell(random.randrange(64)) for _ in range(10)])
+        fabric = ("fabric", 8, 8, 1, 4)
+        plan = placed(cells, fabric)
+        config, paper = routed(cells, fabric, plan)
+        self.assertEqual(config[1][3], 5)
+        is_true(self, routed_right, cells, fabric, plan, config, paper)
 
     def test_there_is_a_routing_just_if_the_clauses_can_be_kept(self):
         for seed, (cells, fabric) in enumerate(cases(40)):
