@@ -91,8 +91,8 @@ def clauses_right(net, other, clauses, proofs):
             return False
     if len(proofs) != len(clauses) + 2 * len(net[5]):
         return False
-    units = Units(two.clauses() + [[_signed(two.flops, integer) for integer in clause] for clause in clauses])
-    wrongs = [[-_signed(two.nexts, integer) for integer in clause] for clause in clauses]
+    units = Units(two.clauses() + [[_signed(two.flops, flop) for flop in clause] for clause in clauses])
+    wrongs = [[-_signed(two.nexts, flop) for flop in clause] for clause in clauses]
     for x, y in zip(two.outs[0], two.outs[1]):
         wrongs.extend([[-x, y], [x, -y]])
     for integers, proof in zip(wrongs, proofs):

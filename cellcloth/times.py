@@ -23,7 +23,8 @@ def times_right(config, delays, period, paper):
     places = places_of(config[1])
     if len(tables) != len(places) or [len(row) for row in wires] != [4 * config[1][3]] * len(places):
         return False
-    known = {wire: told for wire, told in zip(leaving(config[1]), [told for row in wires for told in row])}
+    numbers = [number for row in wires for number in row]
+    known = {wire: number for wire, number in zip(leaving(config[1]), numbers)}
     for (x, y), told in zip(places, tables):
         known[("table", x, y)] = told
     if any([told < 0 for told in known.values()]):

@@ -141,8 +141,8 @@ def _apart_group(masks):
     rivals = []
     for one in masks:
         rivals.append([all([a & b != 0 for a in one for b in other]) for other in masks])
-    counts = [sum(row) for row in rivals]
-    order = [at for _, at in sorted([(-count, at) for at, count in enumerate(counts)])]
+    ranks = sorted([(-sum(row), at) for at, row in enumerate(rivals)])
+    order = [source for _, source in ranks]
     best = []
     for first in range(len(masks)):
         group = [first]

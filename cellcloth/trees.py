@@ -11,8 +11,8 @@ def used_sources(cells):
         for source in sources:
             if source != ("cell", at):
                 has_ends[source] = True
-    pads = [("pad", at) for at in range(ins)]
-    return [source for source in pads + [("cell", at) for at in range(len(rows))] if source in has_ends]
+    all_sources = [("pad", number) for number in range(ins)] + [("cell", number) for number in range(len(rows))]
+    return [source for source in all_sources if source in has_ends]
 
 
 def own_place(plan, source):
