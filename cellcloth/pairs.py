@@ -40,8 +40,6 @@ class Pairs:
     def followers(self, nexts):
         """Returns a dict of the pairs that follow, each with the least number of inputs that leads to it, ascending."""
         texts = [f"{column:b}".zfill(self.many)[::-1] for column in nexts[0] + nexts[1]]
-        if not texts:
-            return {"": 0}
         found = {}
         for number, digits in enumerate(zip(*texts)):
             found.setdefault("".join(digits), number)

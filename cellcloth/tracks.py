@@ -63,6 +63,8 @@ def least_tracks(masks):
     """Returns the shapes and the tracks of a routing for the least number of tracks, this number, and its proof."""
     group = _apart_group(masks)
     many = max(1, len(group))
+    if many > MOST_TRACKS:
+        raise LimitError("tracks")
     proof = [] if many == 1 else _crowd_proof(group, many - 1, numbered(len(masks), many - 1))
     while many <= MOST_TRACKS:
         search = _search_for(masks, many)

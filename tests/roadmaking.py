@@ -32,6 +32,17 @@ def described(name):
     return description_of(TEXTS[name])
 
 
+def chain(gates):
+    """A text whose net has so many gates: whether no two inputs of some pairs are both 1."""
+    pairs = [(j, k) for j in range(40) for k in range(j)][:(gates + 1) // 2]
+    bits = [[f"cut(a{at // 8}, {at % 8}, 1)" for at in pair] for pair in pairs]
+    tests = [f"not(({one} & {other}))" for one, other in bits]
+    lines = [f"let x{k}: 1 = {test if k == 0 else f'(x{k - 1} & {test})'};" for k, test in enumerate(tests)]
+    words = [f"in a{k}: 8;" for k in range(5)]
+    last = [] if gates % 2 else ["out t: 1 = (cut(a4, 7, 1) & cut(a4, 6, 1));"]
+    return " ".join(words + lines + last + [f"out s: 1 = x{len(tests) - 1};"])
+
+
 STEPS = {
     "net": lambda made: blast(made["flat"]),
     "tidy": lambda made: tidied(made["net"]),

@@ -11,13 +11,13 @@ from cellcloth.elaborate import flat
 from cellcloth.fabric import borders
 from cellcloth.nets import needed
 from cellcloth.parsing import parse
-from cellcloth.retime import moved, origin, period
+from cellcloth.retime import moved, origin, period, retimed_right
 from cellcloth.road import agree, road
 from cellcloth.route import _config, _masks, _with_tracks, clauses_of, keeps_apart, routed_right
 from cellcloth.solver import solve
 from making import made
 from netmaking import small_nets
-from roadmaking import KEYS, STEPS, TEXTS, described, description_of, remade
+from roadmaking import KEYS, STEPS, TEXTS, chain, described, description_of, remade
 
 FABRIC = ("fabric", 7, 6, 2, 4)
 DOSSIERS = {}
@@ -315,6 +315,12 @@ class WrongTest(Audit):
         text = "in a: 9; in b: 9; reg r: 9 from 0 = ((a * b) ^ (r * a)); out s: 9 = r;"
         told = self.first_steps({**dossier_of("sum"), "description": description_of(text)})
         self.assertGreater(len(told["small"][0][3]), 200)
+        self.wrong("retimed", told)
+        # Just as many, and one more with a paper that is right but for that.
+        self.right(road(description_of(chain(200)), ("fabric", 12, 12, 1, 4)))
+        told = self.first_steps({**dossier_of("sum"), "description": description_of(chain(201))})
+        told["retimed"] = STEPS["retimed"](told)
+        self.assertTrue(retimed_right(told["small"][0], *told["retimed"]))
         self.wrong("retimed", told)
 
     def first_steps(self, told):

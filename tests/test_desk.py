@@ -7,6 +7,7 @@ from cellcloth.audit import audit
 from cellcloth.bits import bits_of, config_of
 from cellcloth.desk import Desk, session
 from cellcloth.errors import LimitError
+from cellcloth.fabric import empty
 from cellcloth.judge import judge
 from cellcloth.meaning import run
 from cellcloth.parsing import parse
@@ -269,6 +270,21 @@ class MachineTest(unittest.TestCase):
         self.assertEqual([desk.command(line) for line in ("step 1", "check", "same", "remarks")], ["error words"] * 3 + ["error loop 0"])
         turned_to(desk, circle, dossier["bits"])
         self.assertEqual([desk.command(line) for line in ("step 3", "check", "same", "audit")], ["told 3", "alike 1", "same", "right"])
+
+    def test_only_other_inputs_and_only_other_outputs(self):
+        """Machines of as many bits on another fabric."""
+        text, fabric = "in a: 3; out s: 3 = a;", ("fabric", 2, 2, 1, 3)
+        bits = dossier_of(text, fabric)["bits"]
+        slim = ("fabric", 1, 3, 3, 2)
+        ends = [(0, 0, 0, 0), (0, 0, 1, 0), (0, 0, 3, 0)]
+        for ins, outs in ((1, 3), (3, 1)):
+            others = bits_of(("config", slim, [empty(slim)] * 3, ends[:ins], ends[:outs]))
+            self.assertEqual(len(others), len(bits))
+            desk = made_desk(text, fabric)
+            self.assertEqual(desk.command("step 5"), "told 5")
+            turned_to(desk, bits, others)
+            self.assertEqual([desk.command(line) for line in ("step 1", "check", "same", "place 2", "place 3")],
+                             ["error words"] * 3 + ["setting" + " 0" * 17, "error place"])
 
     def circle(self, settings):
         """The settings with a circle in the first place."""

@@ -237,6 +237,19 @@ class JudgeTest(unittest.TestCase):
         wide = net_of_text("in e: 1; in a: 15; reg n: 14 from 0 = (n + word(1, 14)); out s: 1 = (n == word(9999, 14));")
         self.assertEqual(limit_of(wide, ("net", 16, [], [], [], [0])), "inputs")
 
+    def test_just_as_many_pairs_of_states_as_allowed(self):
+        """Both count, but from other numbers on."""
+        def counting(first, last):
+            return net_of_text(f"reg n: 13 from {first} = choose((n == word({last}, 13)), word({first}, 13),"
+                               f" (n + word(1, 13))); out s: 1 = (n == word({last}, 13));")
+
+        for many, kind in ((4096, None), (4097, "states")):
+            net, other = counting(0, many - 1), counting(5, many + 4)
+            self.assertEqual(limit_of(net, other), kind)
+            if kind is None:
+                told = judge(net, other)
+                self.assertEqual((told[1][0], len(told[1][1]), judge_right(net, other, told)), ("states", many, True))
+
     def test_no_limit_for_nets_that_match(self):
         shift = " ".join(f"reg r{k}: 8 from {k} = {'a' if k == 0 else f'r{k - 1}'};" for k in range(8))
         net = net_of_text("in a: 8; in b: 8; " + shift + " out s: 8 = (r7 ^ b);")

@@ -17,7 +17,7 @@ from cellcloth.walk import Walk
 from cellcloth import device
 from making import made, rows_for
 from netmaking import all_rows, made_net, small_nets
-from roadmaking import KEYS, STEPS, TEXTS, described, description_of
+from roadmaking import KEYS, STEPS, TEXTS, chain, described, description_of
 
 GREAT = ("fabric", 12, 12, 1, 4)
 
@@ -155,19 +155,9 @@ class ErrorTest(unittest.TestCase):
 
     def test_two_hundred_gates(self):
         for gates, error in ((199, None), (200, None), (201, (LimitError, "gates")), (202, (LimitError, "gates"))):
-            description = description_of(self.chain(gates))
+            description = description_of(chain(gates))
             self.assertEqual(len(swept(blast(flat(description)))[0][3]), gates)
             self.assertEqual(error_of(description, GREAT), error)
-
-    def chain(self, gates):
-        """A text whose net has so many gates: whether no two inputs of some pairs are both 1."""
-        pairs = [(j, k) for j in range(40) for k in range(j)][:(gates + 1) // 2]
-        bits = [[f"cut(a{at // 8}, {at % 8}, 1)" for at in pair] for pair in pairs]
-        tests = [f"not(({one} & {other}))" for one, other in bits]
-        lines = [f"let x{k}: 1 = {test if k == 0 else f'(x{k - 1} & {test})'};" for k, test in enumerate(tests)]
-        words = [f"in a{k}: 8;" for k in range(5)]
-        last = [] if gates % 2 else ["out t: 1 = (cut(a4, 7, 1) & cut(a4, 6, 1));"]
-        return " ".join(words + lines + last + [f"out s: 1 = x{len(tests) - 1};"])
 
     def test_fit(self):
         self.assertEqual(error_of(described("sum"), ("fabric", 9, 9, 1, 1)), (FitError, "pins"))

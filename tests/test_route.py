@@ -348,6 +348,14 @@ class RoutedTest(unittest.TestCase):
         self.assertEqual(config[1][3], 5)
         is_true(self, routed_right, cells, fabric, plan, config, paper)
 
+    def test_far_too_many_tracks(self):
+        """In one row of places, pads and cells on the left, and all their users on the right."""
+        sources = [pad(at) for at in range(13)] + [cell(at) for at in range(6)]
+        rows = [row()] * 6 + [row(*sources[k::6]) for k in range(6)]
+        ins = [(x, 0, side) for x in range(6) for side in (0, 2)] + [(0, 0, 3)]
+        plan = ("plan", [(x, 0) for x in range(12)], ins, [], [])
+        self.assertEqual(limit_of(("cells", 13, rows, []), ("fabric", 12, 1, 1, 4), plan), "tracks")
+
     def test_there_is_a_routing_just_if_the_clauses_can_be_kept(self):
         for seed, (cells, fabric) in enumerate(cases(40)):
             plan = any_plan(seed, cells, fabric)
