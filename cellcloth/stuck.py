@@ -135,7 +135,8 @@ def _lean_choice(wanted):
         if column & chosen == 0:
             # The lowest bit of the column.
             chosen |= column & -column
-    for at in range(chosen.bit_length()):
+    many = chosen.bit_length()
+    for at in range(many):
         without = chosen ^ (1 << at)
         if (chosen >> at) & 1 and all([column & without for column in wanted]):
             chosen = without
